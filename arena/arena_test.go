@@ -278,6 +278,29 @@ func TestNumbersAcrossPages(t *testing.T) {
 	}
 }
 
+func TestNoughtsInNumbers(t *testing.T) {
+	// Each page is new, or has bytes already.
+	for _, marks := range [][]int{nil, {0}, {1}, {0, 1}} {
+		for at := api.Page - 8; at <= api.Page; at++ {
+			for _, x := range []uint64{0, 1, 0xff << 24, 0xff << 56, 0x00ff00ff00ff00ff, 0xff00ff00ff00ff00} {
+				a := of(t, 2, 0, 1)
+				wanted := make([]byte, 2*api.Page)
+				for _, page := range marks {
+					is(t, "Put", a.Put(page*api.Page, marked(api.Page)), api.OK)
+					copy(wanted[page*api.Page:], marked(api.Page))
+				}
+				is(t, "Store", a.Store(at, 8, x), api.OK)
+				for i := range 8 {
+					wanted[at+i] = byte(x >> (8 * i))
+				}
+				if bytes(t, a, 0, 2*api.Page) != string(wanted) {
+					t.Fatalf("with bytes in the pages %v, Store(%d, 8, %#x) lays other ones", marks, at, x)
+				}
+			}
+		}
+	}
+}
+
 func TestNumbersThatMayNotBe(t *testing.T) {
 	a := of(t, 2, 0, 1)
 	is(t, "Fill", a.Fill(0, 8192, 7), api.OK)
