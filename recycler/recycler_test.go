@@ -543,6 +543,20 @@ func TestGiveRefuses(t *testing.T) {
 	}
 }
 
+// A header in the midst of a run is of no run that could be free.
+func TestGiveWhereNoRunBegins(t *testing.T) {
+	r := fresh(t, 40)
+	run, e := r.Alloc(1)
+	is(t, "Alloc", e, api.OK)
+	is(t, "Write", chunk.Write(r.Arena, chunk.Chunk{At: run + api.Page, Owner: 3}), api.OK)
+	r.Keep(0)
+	before := whole(t, r.Arena)
+	is(t, "Give", r.Give(run+api.Page), api.ErrNone)
+	if whole(t, r.Arena) != before {
+		t.Error("something has changed")
+	}
+}
+
 func TestTrim(t *testing.T) {
 	r := fresh(t, 200)
 	if r.Trim() != 0 {
