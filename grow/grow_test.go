@@ -393,6 +393,29 @@ func TestRoomIsWhatFits(t *testing.T) {
 	}
 }
 
+// Where a chunk was joined to the chain, there is room in its own one even so.
+func TestRoomBehindAJoinedChunk(t *testing.T) {
+	g := grower(t, 60)
+	is(t, "Begin", g.Begin(16), api.OK)
+	is(t, "Blank", g.Blank(4046), api.OK)
+	o, _ := g.Last()
+	c, e := g.Take(3, g.Owner())
+	is(t, "Take", e, api.OK)
+	is(t, "Join", g.Join(c.At), api.OK)
+	for room := 2; room > 0; room-- {
+		if g.Room() != room {
+			t.Errorf("Room: %d, wanted %d", g.Room(), room)
+		}
+		is(t, "Byte", g.Byte('b'), api.OK)
+	}
+	if last, _ := g.Last(); last.At != o.At || g.Room() != 0 {
+		t.Errorf("it was at %d, and is %v, with room for %d", o.At, last, g.Room())
+	}
+	is(t, "Byte", g.Byte('b'), api.ErrRange)
+	is(t, "Grow", g.Grow("c"), api.OK)
+	grows(t, g, 16, strings.Repeat("\x00", 4046)+"bbc")
+}
+
 func TestGrowRefuses(t *testing.T) {
 	for _, first := range []int{0, 10, 3000} {
 		g := grower(t, 6)

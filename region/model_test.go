@@ -131,19 +131,38 @@ func (m *model) resize(r *recycler.Recycler, n, align int) (int, api.Errno) {
 	if n < 0 || !aligned(align) || x.at%align != 0 {
 		return 0, api.ErrArg
 	}
-	if c := m.chunks[0]; x.at+n > c.At+4096<<c.Order {
+	own := slices.IndexFunc(m.chunks, func(c chunk.Chunk) bool { return c.At == x.in })
+	if c := m.chunks[own]; x.at+n > c.At+4096<<c.Order {
 		at, e := m.take(r, 32, n, align)
 		if e != api.OK {
 			return 0, e
 		}
 		x.at, x.in = at, m.chunks[0].At
-		if len(m.chunks) > 2 && (len(m.things) == 1 || m.things[1].in != c.At) {
+		if own+2 < len(m.chunks) && (len(m.things) == 1 || m.things[1].in != c.At) {
 			r.Give(c.At)
-			m.chunks = slices.Delete(m.chunks, 1, 2)
+			m.chunks = slices.Delete(m.chunks, own+1, own+2)
 		}
 	}
 	x.bytes = (x.bytes + strings.Repeat("\x00", max(n-len(x.bytes), 0)))[:n]
 	return x.at, api.OK
+}
+
+// join: a chunk of the owner's that isn't in the chain is the newest one.
+func (m *model) join(r *recycler.Recycler, order int) api.Errno {
+	c, e := r.Take(order, m.owner)
+	if e == api.OK {
+		m.chunks = slices.Insert(m.chunks, 0, c)
+	}
+	return e
+}
+
+// join: so it is of a region.
+func join(g Region, order int) api.Errno {
+	c, e := g.Take(order, g.Owner())
+	if e != api.OK {
+		return e
+	}
+	return g.Join(c.At)
 }
 
 // play is regions and their models, of which the same is asked.
@@ -203,7 +222,7 @@ func (p *play) step(i int) {
 	g, m := open(p.t, p.r, i, p.all[i].front), p.all[i]
 	var at, to int
 	e, f := api.OK, api.OK
-	switch n := p.number(40); {
+	switch n := p.number(42); {
 	case n < 17:
 		n, align := p.bytes(), p.align()
 		at, e = g.Alloc(n, align)
@@ -237,6 +256,9 @@ func (p *play) step(i int) {
 		p.r = anew(p.t, p.r.Clone())
 	case n == 35:
 		p.passer()
+	case n < 38:
+		order := p.number(4)
+		e, f = join(g, order), m.join(p.twin, order)
 	default:
 		p.store(g, m)
 	}

@@ -1024,6 +1024,38 @@ func TestResizeBehindAChunksEnd(t *testing.T) {
 	}
 }
 
+// Of a chunk that was joined to the chain, the last object's own one is not the newest.
+func TestResizeBehindAJoinedChunk(t *testing.T) {
+	g := open(t, fresh(t, 60), 0, 1024)
+	first := alloc(t, g, 100, 1)
+	oldest := newest(t, g)
+	last := alloc(t, g, 4000, 16)
+	own := newest(t, g)
+	is(t, "join", join(g, 2), api.OK)
+	joined := newest(t, g)
+	// Where it stands there is room up to the end of its own chunk.
+	if to := resize(t, g, 4048, 16); to != last {
+		t.Errorf("it is at %d, wanted %d", to, last)
+	}
+	in(t, g, joined, own, oldest)
+	// Its own chunk, in the chain's midst, is given back; the joined one stays.
+	to := resize(t, g, 4049, 16)
+	in(t, g, to-48, joined, oldest)
+	if !slices.Equal(g.Bins().All(0), []int{own}) {
+		t.Errorf("cached are %v, wanted %d", g.Bins().All(0), own)
+	}
+	is(t, "Free", g.Free(to), api.OK)
+	in(t, g, oldest)
+	// The next one stands in the newest chunk, whatever room the last one's has.
+	is(t, "join", join(g, 0), api.OK)
+	joined = newest(t, g)
+	if at := alloc(t, g, 10, 8); at != joined+48 {
+		t.Errorf("it is at %d, wanted %d", at, joined+48)
+	}
+	is(t, "Release", g.Release(first), api.OK)
+	in(t, g, oldest)
+}
+
 func TestResizeTakesTheLeastOrder(t *testing.T) {
 	for order := range api.MaxOrder {
 		g := open(t, fresh(t, 5000), 0, 32)
